@@ -92,15 +92,22 @@ func (r *Reader) Int() int {
 
 // Below: an Int that isn't below 0, and is less than another one.
 func (r *Reader) Below(most int) int {
+	begin := r.at
 	n := r.Int()
 	if r.code != api.OK {
 		return 0
 	}
 	if n < 0 || n >= most {
-		r.code = api.ErrArg
+		r.refuse(begin)
 		return 0
 	}
 	return n
+}
+
+// refuse: a number that is spelled right but isn't what was asked for counts as not taken.
+func (r *Reader) refuse(begin int) {
+	r.at = begin
+	r.code = api.ErrArg
 }
 
 // Text: as Writer's, of at most so many bytes.
@@ -112,8 +119,7 @@ func (r *Reader) Text(most int) string {
 	}
 	// Numbers are held against each other ahead of any change to int: a length may be above all ints.
 	if n > uint64(max(most, 0)) {
-		r.at = begin
-		r.code = api.ErrArg
+		r.refuse(begin)
 		return ""
 	}
 	if n > uint64(len(r.text)-r.at) {

@@ -267,9 +267,10 @@ func TestReadBelow(t *testing.T) {
 		code api.Code
 	}{
 		{writeInt(0), 1, 0, 1, api.OK}, {writeInt(4), 5, 4, 1, api.OK}, {writeInt(math.MaxInt - 1), math.MaxInt, math.MaxInt - 1, 10, api.OK},
-		{writeInt(5), 5, 0, 1, api.ErrArg}, {writeInt(6), 5, 0, 1, api.ErrArg}, {writeInt(64), 5, 0, 2, api.ErrArg},
-		{writeInt(-1), 5, 0, 1, api.ErrArg}, {writeInt(math.MinInt), 5, 0, 10, api.ErrArg}, {writeInt(math.MaxInt), math.MaxInt, 0, 10, api.ErrArg},
-		{writeInt(0), 0, 0, 1, api.ErrArg}, {writeInt(0), -1, 0, 1, api.ErrArg}, {writeInt(-5), -1, 0, 1, api.ErrArg}, {writeInt(0), math.MinInt, 0, 1, api.ErrArg},
+		{writeInt(5), 5, 0, 0, api.ErrArg}, {writeInt(6), 5, 0, 0, api.ErrArg}, {writeInt(64), 5, 0, 0, api.ErrArg},
+		{writeInt(-1), 5, 0, 0, api.ErrArg}, {writeInt(math.MinInt), 5, 0, 0, api.ErrArg}, {writeInt(math.MaxInt), math.MaxInt, 0, 0, api.ErrArg},
+		{writeInt(0), 0, 0, 0, api.ErrArg}, {writeInt(0), -1, 0, 0, api.ErrArg}, {writeInt(-5), -1, 0, 0, api.ErrArg}, {writeInt(0), math.MinInt, 0, 0, api.ErrArg},
+		{writeInt(2), 0, 0, 0, api.ErrArg}, {writeInt(2) + "ab", 2, 0, 0, api.ErrArg},
 		{"", 5, 0, 0, api.ErrEnd}, {"", 0, 0, 0, api.ErrEnd}, {"\x80", 5, 0, 1, api.ErrEnd}, {"\x80", -1, 0, 1, api.ErrEnd},
 		{"\x80\x00", 5, 0, 1, api.ErrForm}, {"\x80\x00", 0, 0, 1, api.ErrForm},
 	} {
@@ -281,6 +282,29 @@ func TestReadBelow(t *testing.T) {
 		if c.code != api.OK {
 			expectStuck(t, "Below", r, c.code)
 		}
+	}
+}
+
+// P2.2: Below's error behind other things leaves what was taken ahead of it; bytes of its own that are right are taken of ErrEnd and ErrForm alone.
+func TestReadBelowBehindOthers(t *testing.T) {
+	for _, c := range []struct {
+		s    string
+		most int
+		at   int
+		code api.Code
+	}{
+		{writeInt(2), 0, 2, api.ErrArg}, {writeInt(0), 0, 2, api.ErrArg}, {writeInt(-1), 5, 2, api.ErrArg},
+		{writeInt(64), 5, 2, api.ErrArg}, {writeInt(math.MinInt), 5, 2, api.ErrArg}, {writeInt(9) + "\x00", 9, 2, api.ErrArg},
+		{"", 5, 2, api.ErrEnd}, {"\x80", 0, 3, api.ErrEnd}, {"\x80\x80", 5, 4, api.ErrEnd},
+		{"\x80\x00", 0, 3, api.ErrForm}, {strings.Repeat("\xff", 9) + "\x02", 5, 11, api.ErrForm},
+	} {
+		r := code.Open(writeNumber(300) + c.s)
+		r.Number()
+		if got := r.Below(c.most); got != 0 {
+			t.Errorf("Below(%d) of %x: %d", c.most, c.s, got)
+		}
+		expect(t, "Below behind a number", r, c.at, c.code)
+		expectStuck(t, "Below behind a number", r, c.code)
 	}
 }
 
