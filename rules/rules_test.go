@@ -30,10 +30,16 @@ var library = []string{
 
 const longest = 60
 
+// sharedTests is where .ci/run lays the shared tests, which may use all of Go.
+const sharedTests = "../sharedtests"
+
 // programFiles: the Go files of the program, without its tests.
 func programFiles(t *testing.T) []string {
 	var l []string
 	err := filepath.WalkDir("..", func(path string, d fs.DirEntry, err error) error {
+		if filepath.ToSlash(path) == sharedTests {
+			return fs.SkipDir
+		}
 		if err == nil && strings.HasSuffix(path, ".go") && !strings.HasSuffix(path, "_test.go") {
 			l = append(l, path)
 		}
