@@ -77,8 +77,8 @@ func TestNew(t *testing.T) {
 			t.Errorf("New %d: a world beside %v", i, err)
 		}
 		var f *api.Fault
-		if errors.As(err, &f) && f.At != c.at {
-			t.Errorf("New %d: At %d, not %d", i, f.At, c.at)
+		if c.want == api.ErrSchema && (!errors.As(err, &f) || f.At != c.at) {
+			t.Errorf("New %d: %v, not at %d", i, err, c.at)
 		}
 	}
 	for _, levels := range []int{0, 1, 8} {
